@@ -1,0 +1,1 @@
+"""Relayholds: circuits of relays that end as told, whatever their times."""
