@@ -1,53 +1,14 @@
 import itertools
-import random
 import unittest
 
 from relayholds.current import current, is_short, joined
 from relayholds.nets import Net
-from tests.examples import greatest_net, net_of, random_net, refusal, right_parts, told_parts, wires_only
+from tests.examples import (
+    chains, greatest_net, net_of, random_net, refusal, right_parts, told_parts, wires_only,
+)
+from tests.reckoning import positions, reach_table, reckoned_current
 
 NOBODY = ((), ())
-
-
-def positions(net):
-    keys, relays = len(net.key_words()), len(net.relays())
-    for bits in itertools.product((0, 1), repeat=keys + relays):
-        yield bits[:keys], bits[keys:]
-
-
-def joins(piece, one, other, standing):
-    """Whether a piece joins the nodes, by the words of the document."""
-    if piece[0] == "wire":
-        pair = piece[1:]
-    elif piece[0] == "made":
-        pair = piece[2:] if standing[piece[1]] == 1 else None
-    elif piece[0] == "broken":
-        pair = piece[2:] if standing[piece[1]] == 0 else None
-    elif piece[0] == "swap":
-        pair = (piece[2], piece[3]) if standing[piece[1]] == 1 else (piece[2], piece[4])
-    else:
-        pair = None
-    return pair in ((one, other), (other, one))
-
-
-def reach_table(net, position):
-    """For each two nodes whether they are joined, reckoned from all ways over one more node each time."""
-    standing = dict(zip(net.key_words() + net.relays(), position[0] + position[1]))
-    nodes = range(net.nodes())
-    table = [[a == b or any(joins(piece, a, b, standing) for piece in net.pieces()) for b in nodes] for a in nodes]
-    for over, a, b in itertools.product(nodes, repeat=3):
-        if table[a][over] and table[over][b]:
-            table[a][b] = True
-    return table
-
-
-def reckoned_current(net, table, word, names):
-    found = []
-    for name in names:
-        ends = [piece[2:] for piece in net.pieces() if piece[:2] == (word, name)][0]
-        flows = any(table[0][a] and table[1][b] for a, b in (ends, ends[::-1]))
-        found.append(1 if flows and not table[0][1] else 0)
-    return tuple(found)
 
 
 class CurrentCase(unittest.TestCase):
@@ -192,17 +153,8 @@ class SmallNetsTest(CurrentCase):
 
 class ChainsTest(CurrentCase):
 
-    def chains(self):
-        """All 640 nodes, one behind another, in several orders, from plus on, minus last."""
-        middle = list(range(2, 640))
-        orders = [middle, middle[::-1], middle[::2] + middle[1::2]]
-        for seed in range(3):
-            orders.append(list(middle))
-            random.Random(seed).shuffle(orders[-1])
-        return [[0] + order + [1] for order in orders]
-
     def test_chain_over_all_nodes(self):
-        for chain in self.chains():
+        for chain in chains():
             pieces = [("made", "k", a, b) for a, b in zip(chain, chain[1:])]
             net = Net(["k"], [], [], 640, pieces, [])
             self.assertEqual(joined(net, ((1,), ())), [0] * 640)
@@ -211,7 +163,7 @@ class ChainsTest(CurrentCase):
             self.assertIs(is_short(net, ((0,), ())), False)
 
     def test_chain_with_a_coil_and_a_lamp(self):
-        for chain in self.chains():
+        for chain in chains():
             for gap in (0, 1, 320, 637, 638):
                 steps = list(zip(chain, chain[1:]))
                 ends = steps.pop(gap)

@@ -2,6 +2,7 @@
 
 import ast
 import builtins
+import functools
 import pathlib
 import re
 import unittest
@@ -36,10 +37,16 @@ NamedTuple TypedDict TYPE_CHECKING abstractmethod
 DOUBLE_UNDERSCORES = ("__init__", "__eq__", "__repr__", "__str__", "__len__")
 
 
+ITERATED_AT_ONCE = ("zip", "enumerate", "reversed", "range")
+ITERATING = set("list tuple dict sorted sum any all enumerate zip bytes min max".split())
+
+
+@functools.cache
 def files():
     return [(path.stem, path.read_text(encoding="utf-8")) for path in sorted(PACKAGE.glob("*.py"))]
 
 
+@functools.cache
 def trees():
     return [(name, ast.parse(text)) for name, text in files()]
 
@@ -48,6 +55,7 @@ def nodes_of(kind):
     return [(name, node) for name, tree in trees() for node in ast.walk(tree) if isinstance(node, kind)]
 
 
+@functools.cache
 def methods():
     return {item.name for _, node in nodes_of(ast.ClassDef) for item in node.body if isinstance(item, ast.FunctionDef)}
 
@@ -59,6 +67,15 @@ def bound_names():
     found += [(file, node.name) for file, node in nodes_of(ast.ClassDef)]
     found += [(file, node.name) for file, node in nodes_of(ast.FunctionDef) if node.name not in methods()]
     return found
+
+
+def parents(tree):
+    return {child: node for node in ast.walk(tree) for child in ast.iter_child_nodes(node)}
+
+
+def calls_of(node, names):
+    """Whether a node is a call of one of the named functions."""
+    return isinstance(node, ast.Call) and isinstance(node.func, ast.Name) and node.func.id in names
 
 
 class LanguageTest(unittest.TestCase):
@@ -159,3 +176,42 @@ class LanguageTest(unittest.TestCase):
                 if isinstance(operator, (ast.Is, ast.IsNot)):
                     self.assertIsInstance(value, ast.Constant, name)
                     self.assertIn(value.value, (None, True, False), name)
+
+    def test_local_names_are_no_imports_or_classes_of_the_file(self):
+        for name, tree in trees():
+            taken = {item.name for node in tree.body if isinstance(node, ast.ImportFrom) for item in node.names}
+            taken |= {node.name for node in tree.body if isinstance(node, ast.ClassDef)}
+            bound = {node.id for node in ast.walk(tree) if isinstance(node, ast.Name) and isinstance(node.ctx, ast.Store)}
+            bound |= {node.arg for node in ast.walk(tree) if isinstance(node, ast.arg)}
+            self.assertEqual(taken & bound, set(), name)
+
+    def test_powers_have_literal_exponents(self):
+        for name, node in nodes_of(ast.BinOp):
+            if isinstance(node.op, ast.Pow):
+                self.assertIsInstance(node.right, ast.Constant, name)
+
+    def test_where_sets_stand(self):
+        for name, tree in trees():
+            above = parents(tree)
+            for node in ast.walk(tree):
+                if isinstance(node, (ast.Set, ast.SetComp)) or calls_of(node, ("set",)):
+                    parent = above[node]
+                    stored = isinstance(parent, ast.Assign) and isinstance(parent.targets[0], ast.Name)
+                    self.assertTrue(stored or isinstance(parent, ast.Compare) or calls_of(parent, ("sorted", "len")),
+                                    (name, node.lineno))
+
+    def test_what_is_iterated_at_once(self):
+        for name, tree in trees():
+            above = parents(tree)
+            for node in ast.walk(tree):
+                if calls_of(node, ITERATED_AT_ONCE):
+                    parent = above[node]
+                    looped = isinstance(parent, (ast.For, ast.comprehension)) and parent.iter == node
+                    self.assertTrue(looped or calls_of(parent, ITERATING), (name, node.lineno))
+
+    def test_what_a_loop_goes_over_is_not_changed_in_it(self):
+        for name, loop in nodes_of(ast.For):
+            over = {node.id for node in ast.walk(loop.iter) if isinstance(node, ast.Name)}
+            for node in [inner for line in loop.body for inner in ast.walk(line)]:
+                if isinstance(node, ast.Attribute) and node.attr in ("append", "extend", "pop", "remove", "clear"):
+                    self.assertNotIn(getattr(node.value, "id", None), over, (name, node.lineno))

@@ -1,0 +1,178 @@
+"""What the document's words say, reckoned slowly and without the program, for tests to compare with."""
+
+import itertools
+
+from relayholds.nets import Net
+
+
+def positions(net):
+    keys, relays = len(net.key_words()), len(net.relays())
+    for bits in itertools.product((0, 1), repeat=keys + relays):
+        yield bits[:keys], bits[keys:]
+
+
+def all_bits(many):
+    return list(itertools.product((0, 1), repeat=many))
+
+
+def standing_at(net, position):
+    return dict(zip(net.key_words() + net.relays(), position[0] + position[1]))
+
+
+def joins(piece, one, other, standing):
+    """Whether a piece joins the nodes, by the words of the document."""
+    if piece[0] == "wire":
+        pair = piece[1:]
+    elif piece[0] == "made":
+        pair = piece[2:] if standing[piece[1]] == 1 else None
+    elif piece[0] == "broken":
+        pair = piece[2:] if standing[piece[1]] == 0 else None
+    elif piece[0] == "swap":
+        pair = (piece[2], piece[3]) if standing[piece[1]] == 1 else (piece[2], piece[4])
+    else:
+        pair = None
+    return pair in ((one, other), (other, one))
+
+
+def reach_table(net, position):
+    """For each two nodes whether they are joined, reckoned from all ways over one more node each time."""
+    return [[steps is not None for steps in row] for row in distance_table(net, position)]
+
+
+def distance_table(net, position):
+    """For each two nodes how few pieces join them, None where none do."""
+    standing = standing_at(net, position)
+    nodes = range(net.nodes())
+    table = [[0 if a == b else None for b in nodes] for a in nodes]
+    for a, b in itertools.combinations(nodes, 2):
+        if any(joins(piece, a, b, standing) for piece in net.pieces()):
+            table[a][b] = table[b][a] = 1
+    for over, a, b in itertools.product(nodes, repeat=3):
+        if table[a][over] is not None and table[over][b] is not None:
+            steps = table[a][over] + table[over][b]
+            if table[a][b] is None or steps < table[a][b]:
+                table[a][b] = steps
+    return table
+
+
+def ends_named(net, word, name):
+    return [piece[2:] for piece in net.pieces() if piece[:2] == (word, name)][0]
+
+
+def reckoned_current(net, table, word, names):
+    found = []
+    for name in names:
+        ends = ends_named(net, word, name)
+        flows = any(table[0][a] and table[1][b] for a, b in (ends, ends[::-1]))
+        found.append(1 if flows and not table[0][1] else 0)
+    return tuple(found)
+
+
+def net_without(net, numbers):
+    """The net with the pieces of these numbers taken out."""
+    pieces = [piece for at, piece in enumerate(net.pieces()) if at not in numbers]
+    return Net(net.key_words(), net.relays(), net.lamps(), net.nodes(), pieces, net.times())
+
+
+class Player:
+    """Plays a net by the words of the document, with who has current kept for each position."""
+
+    def __init__(self, net):
+        self.net = net
+        self.fed = {}
+
+    def has_current(self, position):
+        if position not in self.fed:
+            table = reach_table(self.net, position)
+            self.fed[position] = reckoned_current(self.net, table, "coil", self.net.relays())
+        return self.fed[position]
+
+    def called(self, position):
+        pulled = position[1]
+        return tuple(
+            1 if (has == 1 and bit == 0) or (has == 0 and bit == 1) else 0
+            for has, bit in zip(self.has_current(position), pulled))
+
+    def bounds(self, relay, pulled):
+        p, q, f, g = self.net.times()[relay]
+        return (p, q) if pulled[relay] == 0 else (f, g)
+
+    def is_state(self, state):
+        """Of a right position with any counts."""
+        pressed, pulled, counts = state
+        called = self.called((pressed, pulled))
+        if len(counts) != len(pulled):
+            return False
+        for relay, count in enumerate(counts):
+            if count < 0 or (count > 0 and not called[relay]):
+                return False
+            if called[relay] and count >= self.bounds(relay, pulled)[1]:
+                return False
+        return True
+
+    def states(self):
+        """All states of the net."""
+        for position in positions(self.net):
+            called = self.called(position)
+            ranges = [range(self.bounds(relay, position[1])[1]) if called[relay] else range(1)
+                      for relay in range(len(called))]
+            for counts in itertools.product(*ranges):
+                yield position + (counts,)
+
+    def nexts(self, state):
+        """Each set of relays is tried; it may be the one that changes, or not."""
+        pressed, pulled, counts = state
+        called = self.called((pressed, pulled))
+        relays = range(len(pulled))
+        grown = [counts[relay] + 1 if called[relay] else counts[relay] for relay in relays]
+        must = {relay for relay in relays if called[relay] and grown[relay] >= self.bounds(relay, pulled)[1]}
+        may = {relay for relay in relays if called[relay] and grown[relay] >= self.bounds(relay, pulled)[0]}
+        found = []
+        for bits in all_bits(len(pulled)):
+            changing = {relay for relay in relays if bits[relay]}
+            if must <= changing <= may:
+                found.append(self.after_change(pressed, pulled, grown, changing))
+        return sorted(found)
+
+    def after_change(self, pressed, pulled, grown, changing):
+        new = tuple(1 - bit if relay in changing else bit for relay, bit in enumerate(pulled))
+        called = self.called((pressed, new))
+        counts = tuple(0 if relay in changing or not called[relay] else grown[relay] for relay in range(len(new)))
+        return (pressed, new, counts)
+
+    def pressed_anew(self, state, pressed):
+        before, pulled, counts = state
+        was_fed, is_fed = self.has_current((before, pulled)), self.has_current((pressed, pulled))
+        kept = []
+        for relay, bit in enumerate(pulled):
+            calls = [(has, bit) for has in (was_fed[relay], is_fed[relay])]
+            still = calls[0] == calls[1] and calls[0] in ((1, 0), (0, 1))
+            kept.append(counts[relay] if still else 0)
+        return (pressed, pulled, tuple(kept))
+
+    def rests(self, state):
+        return self.called(state[:2]) == (0,) * len(state[1])
+
+    def levels(self, state):
+        """Lists of the states that are first come to behind 0, 1, 2 .. ticks."""
+        seen, level = {state}, [state]
+        while level:
+            yield level
+            found = {follower for at in level for follower in self.nexts(at)} - seen
+            seen |= found
+            level = sorted(found)
+
+    def reached(self, state):
+        return [at for level in self.levels(state) for at in level]
+
+    def ends_and_whether_round(self, state):
+        """The rests; and whether some states that are not at rest can be gone through for ever."""
+        reached = self.reached(state)
+        rests = sorted({at[1] for at in reached if self.rests(at)})
+        moving = {at: set(self.nexts(at)) for at in reached if not self.rests(at)}
+        while True:
+            stuck = [at for at in moving if not moving[at] & set(moving)]
+            if not stuck:
+                return rests, bool(moving)
+            for at in stuck:
+                del moving[at]
