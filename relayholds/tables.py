@@ -48,6 +48,17 @@ def count_letters(keys):
     return 1 << len(keys)
 
 
+def goings_on(table, x):
+    """For each state the tuple of it and of the one to which it goes by letter x."""
+    return [(s, table.goes(s, x)) for s in range(len(table.states()))]
+
+
+def unlike_goings(table, x):
+    """All two goings on of letter x that have unlike ends, the lesser state's one first, rising."""
+    goings = goings_on(table, x)
+    return [(one, other) for one in goings for other in goings if one[0] < other[0] and one[1] != other[1]]
+
+
 def check_table(keys, states, lamps, rows, lights):
     """Refuse the first fault: the checks stand in the order in which faults are told."""
     wrong = first_wrong_word(keys + states + lamps)

@@ -209,6 +209,37 @@ def random_table(seed, states=None, keys=None):
     return table_of(columns, lights)
 
 
+def random_names(chance, states):
+    places = chance.randrange(2 if states > 2 else 1, 5)
+    return chance.sample(list(itertools.product((0, 1), repeat=places)), states)
+
+
+# What is no names of a table of three states.
+WRONG_NAMES = [
+    [],
+    [(0, 0)],
+    [(0, 0), (0, 1)],
+    [(0, 0), (0, 1), (1, 0), (1, 1)],
+    [(0, 0), (0, 1), (1, 0), ()],
+    [(), (), ()],
+    [(0, 0, 0, 0, 0), (0, 0, 0, 0, 1), (0, 0, 0, 1, 0)],
+    [(0,), (0, 1), (1, 0)],
+    [(0, 0), (0, 1), (1,)],
+    [(0, 0), (0, 1, 0), (1, 0)],
+    [(0, 0), (), (1, 0)],
+    [(), (0, 1), (1, 0)],
+    [(0, 0, 0), (0, 1), (1, 0)],
+    [(2, 0), (0, 1), (1, 0)],
+    [(0, 0), (0, -1), (1, 0)],
+    [(0, 0), (0, 1), (10 ** 20, 0)],
+    [(0, 0), (0, 1), (0, 0)],
+    [(0, 1), (0, 1), (1, 0)],
+    [(0, 1), (1, 1), (1, 1)],
+    [(0,), (1,), (0,)],
+    [(0,), (1,), (2,)],
+]
+
+
 def refusal(case, name, function, *arguments):
     """The refusal of that class, and of no other one, that function meets."""
     with case.assertRaises(ValueError) as caught:

@@ -74,6 +74,32 @@ def net_without(net, numbers):
     return Net(net.key_words(), net.relays(), net.lamps(), net.nodes(), pieces, net.times())
 
 
+def reckoned_span(one, other):
+    return [name for name in all_bits(len(one))
+            if all(name[at] == one[at] == other[at] for at in range(len(one)) if one[at] == other[at])]
+
+
+def reckoned_parted(names, one, other):
+    for at in range(len(names[0])):
+        these, those = {names[s][at] for s in one}, {names[s][at] for s in other}
+        if len(these) == 1 and len(those) == 1 and these != those:
+            return True
+    return False
+
+
+def reckoned_pairs(table):
+    states = range(len(table.states()))
+    found = set()
+    for s, u in itertools.product(states, repeat=2):
+        for x in range(table.letters()):
+            t, v = table.goes(s, x), table.goes(u, x)
+            if s < u and t != v:
+                found.add(((s, t), (u, v)))
+        if s < u:
+            found.add(((s, s), (u, u)))
+    return sorted(found)
+
+
 class Player:
     """Plays a net by the words of the document, with who has current kept for each position."""
 

@@ -3,26 +3,8 @@ import random
 import unittest
 
 from relayholds.names import are_parted, span
-from tests.examples import random_table
-from tests.reckoning import all_bits
-
-
-def reckoned_span(one, other):
-    return [name for name in all_bits(len(one))
-            if all(name[at] == one[at] == other[at] for at in range(len(one)) if one[at] == other[at])]
-
-
-def reckoned_parted(names, one, other):
-    for at in range(len(names[0])):
-        these, those = {names[s][at] for s in one}, {names[s][at] for s in other}
-        if len(these) == 1 and len(those) == 1 and these != those:
-            return True
-    return False
-
-
-def random_names(chance, states):
-    places = chance.randrange(2 if states > 2 else 1, 5)
-    return chance.sample(all_bits(places), states)
+from tests.examples import random_names, random_table
+from tests.reckoning import all_bits, reckoned_parted, reckoned_span
 
 
 class SpanTest(unittest.TestCase):
