@@ -7,7 +7,11 @@ from relayholds.ticks import Ticker, check_state
 def ends(net, state):
     """The pulled parts of all rests, rising, and a round of states that never rest, or None."""
     check_state(net, state, [])
-    ticker = Ticker(net)
+    return played_ends(Ticker(net), state)
+
+
+def played_ends(ticker, state):
+    """The ends of a right state of the ticker's net."""
     found = reached(ticker, state)
     rests = sorted({at[1] for at in found if ticker.rests(at)})
     moving = [at for at in found if not ticker.rests(at)]

@@ -1,10 +1,9 @@
 """Relays that hold themselves, and the contacts that keep one pulled."""
 
 from relayholds.current import is_fed, least_nodes, links
-from relayholds.nets import ends_of
+from relayholds.nets import CONTACT_WORDS, ends_of
 from relayholds.ways import number_of, way
 
-CONTACT_WORDS = ("made", "broken", "swap")
 # A contact of a pulled relay that is joined by its being pulled begins with one of these.
 PULLED_WORDS = ("made", "swap")
 

@@ -14,6 +14,7 @@ MOST_TIME = 4
 
 # How many nodes a piece has, by its first word.
 MANY_ENDS = {"wire": 2, "made": 2, "broken": 2, "swap": 3, "coil": 2, "lamp": 2}
+CONTACT_WORDS = ("made", "broken", "swap")
 
 
 class Net:
@@ -53,10 +54,7 @@ def check_net(keys, relays, lamps, nodes, pieces, times):
     """Refuse the first fault: the checks stand in the order in which faults are told."""
     check_words(keys, relays, lamps)
     check_many(keys, relays, lamps)
-    if not LEAST_NODES <= nodes <= MOST_NODES:
-        raise NoNet(("nodes", nodes))
-    if len(pieces) > MOST_PIECES:
-        raise NoNet(("pieces", len(pieces)))
+    check_sizes(nodes, len(pieces))
     check_pieces(keys, relays, lamps, nodes, pieces)
     check_just_one("coil", relays, pieces)
     check_just_one("lamp", lamps, pieces)
@@ -88,6 +86,14 @@ def check_many(keys, relays, lamps):
     for at, (words, most) in enumerate(bounds):
         if len(words) > most:
             raise NoNet(("many", at))
+
+
+def check_sizes(nodes, many):
+    """Whether a net may have so many nodes, and so many pieces."""
+    if not LEAST_NODES <= nodes <= MOST_NODES:
+        raise NoNet(("nodes", nodes))
+    if many > MOST_PIECES:
+        raise NoNet(("pieces", many))
 
 
 def check_pieces(keys, relays, lamps, nodes, pieces):

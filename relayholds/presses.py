@@ -1,7 +1,6 @@
 """Goings of keys pressed one behind another, and how short a press may be."""
 
-from relayholds.errors import NotResting
-from relayholds.ticks import Ticker, check_state, least_time
+from relayholds.ticks import Ticker, called, check_rest, check_state, least_time
 
 
 def behind(net, state, going):
@@ -18,11 +17,8 @@ def behind(net, state, going):
 
 def least_press(net, state, pressed):
     """For how many ticks the keys are pressed at least where a relay changes; None where nobody is called."""
-    check_state(net, state, [pressed])
-    ticker = Ticker(net)
-    if not ticker.rests(state):
-        raise NotResting("the state is not at rest")
+    check_rest(net, state, [pressed])
     pulled = state[1]
-    calls = ticker.called_at((pressed, pulled))
+    calls = called(net, (pressed, pulled))
     least = [least_time(bit, bounds) for call, bit, bounds in zip(calls, pulled, net.times()) if call]
     return min(least, default=None)

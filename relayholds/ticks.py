@@ -1,7 +1,7 @@
 """Who is called, and what a tick, or other keys, make of a state."""
 
 from relayholds.current import check_bits, check_position, current
-from relayholds.errors import NoState
+from relayholds.errors import NoState, NotResting
 from relayholds.nets import MOST_KEYS, MOST_RELAYS
 from relayholds.picks import picks
 
@@ -95,6 +95,13 @@ def check_state(net, state, others):
     for count, call, bit, bounds in zip(counts, calls, pulled, net.times()):
         if not 0 <= count <= most_count(call, bit, bounds):
             raise NoState("a count is too small or too great")
+
+
+def check_rest(net, state, others):
+    """Refuse a state that is none, or is not at rest; others are keys pressed, as for check_state."""
+    check_state(net, state, others)
+    if any(called(net, state[:2])):
+        raise NotResting("the state is not at rest")
 
 
 def most_count(call, bit, bounds):

@@ -106,6 +106,17 @@ def rivals(times):
     return Net(["k"], ["a", "b"], [], 5, pieces, times)
 
 
+# Of two rivals whoever is first stays; where both are pulled at once, the first one falls: two ends, no round.
+TWO_ENDS = [(1, 2, 1, 1), (1, 2, 3, 3)]
+
+
+def lucky_buzzer():
+    """The relay a buzzes until it happens to be pulled for so long that b is, too: one end, and a round."""
+    pieces = [("made", "k", 0, 2), ("broken", "a", 2, 3), ("broken", "b", 3, 4), ("coil", "a", 4, 1),
+              ("made", "a", 2, 5), ("made", "b", 2, 5), ("coil", "b", 5, 1)]
+    return Net(["k"], ["a", "b"], [], 6, pieces, [(1, 1, 1, 2), (2, 2, 1, 1)])
+
+
 def four_buzzers():
     """As many states as there can be by one position's keys."""
     names = list("abcd")

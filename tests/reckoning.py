@@ -74,6 +74,25 @@ def net_without(net, numbers):
     return Net(net.key_words(), net.relays(), net.lamps(), net.nodes(), pieces, net.times())
 
 
+def reckoned_stuck(net, piece, word):
+    """Each contact but the stuck one stays as it is."""
+    pieces = []
+    for at, part in enumerate(net.pieces()):
+        if at != piece:
+            pieces.append(part)
+        elif word == "made":
+            pieces.append(("wire", part[2], part[3]))
+    return Net(net.key_words(), net.relays(), net.lamps(), net.nodes(), pieces, net.times())
+
+
+def keys_of(net, letter):
+    return tuple(1 if letter & 2 ** key else 0 for key in range(len(net.key_words())))
+
+
+def contacts_of(net):
+    return [at for at, piece in enumerate(net.pieces()) if piece[0] in ("made", "broken", "swap")]
+
+
 def reckoned_span(one, other):
     return [name for name in all_bits(len(one))
             if all(name[at] == one[at] == other[at] for at in range(len(one)) if one[at] == other[at])]
@@ -106,12 +125,20 @@ class Player:
     def __init__(self, net):
         self.net = net
         self.fed = {}
+        self.lit = {}
+        self.known = {}
 
     def has_current(self, position):
         if position not in self.fed:
             table = reach_table(self.net, position)
             self.fed[position] = reckoned_current(self.net, table, "coil", self.net.relays())
         return self.fed[position]
+
+    def lamps(self, position):
+        if position not in self.lit:
+            table = reach_table(self.net, position)
+            self.lit[position] = reckoned_current(self.net, table, "lamp", self.net.lamps())
+        return self.lit[position]
 
     def called(self, position):
         pulled = position[1]
@@ -191,6 +218,25 @@ class Player:
     def reached(self, state):
         return [at for level in self.levels(state) for at in level]
 
+    def from_position(self, position):
+        """The ends and whether there is a round, all counts being 0."""
+        if position not in self.known:
+            self.known[position] = self.ends_and_whether_round(position + ((0,) * len(position[1]),))
+        return self.known[position]
+
+    def is_sure(self, state):
+        """Of a state at rest: all rests that letters lead to are looked at, by each letter."""
+        places, before = {state[1]}, set()
+        while places != before:
+            before = set(places)
+            for pulled in before:
+                for letter in range(2 ** len(self.net.key_words())):
+                    rests, has_round = self.from_position((keys_of(self.net, letter), pulled))
+                    if has_round or len(rests) != 1:
+                        return False
+                    places |= set(rests)
+        return True
+
     def ends_and_whether_round(self, state):
         """The rests; and whether some states that are not at rest can be gone through for ever."""
         reached = self.reached(state)
@@ -202,3 +248,66 @@ class Player:
                 return rests, bool(moving)
             for at in stuck:
                 del moving[at]
+
+
+def play_with_times(player, state, delays):
+    """The rest that is come to where relay r takes delays[r][0] ticks to pull, delays[r][1] to fall; None if none."""
+    seen = set()
+    while not player.rests(state) and state not in seen:
+        seen.add(state)
+        pressed, pulled, counts = state
+        called = player.called((pressed, pulled))
+        grown = [count + call for count, call in zip(counts, called)]
+        changing = {relay for relay, bit in enumerate(pulled)
+                    if called[relay] and grown[relay] >= delays[relay][bit]}
+        state = player.after_change(pressed, pulled, grown, changing)
+    return state[1] if player.rests(state) else None
+
+
+class Trial:
+    """A sure net and the stuck one, either played by whatever tells its ends and lamps; sets are gone through."""
+
+    def __init__(self, sure, stuck, letters):
+        self.sure, self.stuck, self.letters = sure, stuck, letters
+
+    def press(self, pressed, standing):
+        """The sure one's place and the set of all where the stuck one may stand; None where it may go round."""
+        place, others = standing
+        found = [self.stuck.from_position((pressed, pulled)) for pulled in sorted(others)]
+        if any(has_round for _, has_round in found):
+            return None
+        (goal,), _ = self.sure.from_position((pressed, place))
+        return goal, frozenset(rest for rests, _ in found for rest in rests)
+
+    def tells(self, pressed, standing):
+        right = self.sure.lamps((pressed, standing[0]))
+        return all(self.stuck.lamps((pressed, pulled)) != right for pulled in standing[1])
+
+    def begin(self, state):
+        standing = self.press(state[0], (state[1], frozenset([state[1]])))
+        return None if standing is None else (state[0], standing)
+
+    def fewest_letters(self, state):
+        """How many letters tell at least; None where none do. All keys with all standings are looked at."""
+        begun = self.begin(state)
+        level = set() if begun is None else {begun}
+        seen, many = set(level), 0
+        while level:
+            if any(self.tells(*at) for at in level):
+                return many
+            found = {(pressed, self.press(pressed, standing)) for _, standing in level for pressed in self.letters}
+            level = {at for at in found if at[1] is not None} - seen
+            seen |= level
+            many += 1
+        return None
+
+    def does(self, state, row):
+        """Whether the row tells."""
+        at = self.begin(state)
+        for letter in row:
+            if at is None:
+                return False
+            pressed = self.letters[letter]
+            standing = self.press(pressed, at[1])
+            at = None if standing is None else (pressed, standing)
+        return at is not None and self.tells(*at)

@@ -8,21 +8,7 @@ from tests.examples import (
     SLOWEST, buzzer, four_buzzers, greatest_net, lively_net, net_of, random_net, refusal, right_parts, rivals,
     told_parts,
 )
-from tests.reckoning import Player, all_bits, positions
-
-
-def play_with_times(player, state, delays):
-    """The rest that is come to where relay r takes delays[r][0] ticks to pull, delays[r][1] to fall; None if none."""
-    seen = set()
-    while not player.rests(state) and state not in seen:
-        seen.add(state)
-        pressed, pulled, counts = state
-        called = player.called((pressed, pulled))
-        grown = [count + call for count, call in zip(counts, called)]
-        changing = {relay for relay, bit in enumerate(pulled)
-                    if called[relay] and grown[relay] >= delays[relay][bit]}
-        state = player.after_change(pressed, pulled, grown, changing)
-    return state[1] if player.rests(state) else None
+from tests.reckoning import Player, all_bits, play_with_times, positions
 
 
 class EndsCase(unittest.TestCase):
